@@ -1,0 +1,1 @@
+"""Eitheror: wishes of two words each, and what follows from them."""
