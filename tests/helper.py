@@ -48,6 +48,30 @@ def pleased_by(choice, wish):
     return any(choice[name] is truth for name, truth in wish)
 
 
+def pleasing(names, wishes):
+    return [choice for choice in choices_of(names) if all(pleased_by(choice, wish) for wish in wishes)]
+
+
+def tears(wishes, there, back):
+    """[4]: whether these are two chains, one from a word to its opposite, and one from there back."""
+    if not is_chain(wishes, there) or not is_chain(wishes, back):
+        return False
+    word = there[0]
+    return (there[-1], back[0], back[-1]) == (opposite(word), opposite(word), word)
+
+
+def clashes(wishes, words, links):
+    """[5]: whether this is a chain from one of the words to the opposite of one of them."""
+    return is_chain(wishes, links) and links[0] in words and links[-1] in [opposite(word) for word in words]
+
+
+def lists_of(members, most):
+    """All lists of these members, in each order, of none up to the most."""
+    for count in range(most + 1):
+        for members_taken in itertools.product(members, repeat=count):
+            yield list(members_taken)
+
+
 def small_houses():
     """All houses of one name with up to three wishes, and all of two names with up to two."""
     for names, most in ((1, 3), (2, 2)):
@@ -63,6 +87,36 @@ def mixed_houses():
         for count in (0, 1, 2, 4, 6, 8, 12, 16, 20, 24):
             for turn in range(3):
                 yield names, [source.choice(wishes_of(names)) for place in range(count)]
+
+
+def pleased_houses():
+    """Houses of each number of names and of wishes that some choice pleases; the same ones each time."""
+    source = random.Random(21)
+    for names in range(1, 9):
+        for count in range(25):
+            choice = source.choice(choices_of(names))
+            fitting = [wish for wish in wishes_of(names) if pleased_by(choice, wish)]
+            yield names, [source.choice(fitting) for place in range(count)]
+
+
+def torn_houses():
+    """Houses of each number of names, with 2 to 24 wishes, that no choice pleases; the same ones each time."""
+    source = random.Random(22)
+    for names in range(1, 9):
+        yield names, long_tear(names)
+        for count in range(2, 25):
+            wishes = [source.choice(wishes_of(names)) for place in range(count)]
+            if pleasing(names, wishes):
+                word = source.choice(words_of(names))
+                wishes[:2] = [(word, word), (opposite(word), opposite(word))]
+            source.shuffle(wishes)
+            yield names, wishes
+
+
+def long_tear(names):
+    """A house whose words all hang on one another, around all names and back."""
+    first, last = (0, True), (names - 1, False)
+    return ladder(names) + [(first, first), (last, last)]
 
 
 def ring(names):

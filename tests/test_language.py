@@ -86,6 +86,29 @@ class Language(unittest.TestCase):
             for alias in node.names:
                 self.assertRegex(defining, rf"(?m)^(def {alias.name}\(|class {alias.name}\b|{alias.name} = )", file)
 
+    def test_no_two_files_draw_from_one_another(self):
+        drawn = {path.name: set() for path in sources()}
+        for file, node in nodes(ast.ImportFrom):
+            drawn[file].add(node.module.split(".")[1] + ".py")
+        while drawn:
+            free = [file for file in drawn if not drawn[file] & set(drawn)]
+            self.assertTrue(free, drawn)
+            for file in free:
+                drawn.pop(file)
+
+    def test_is_stands_beside_none_and_truths_alone(self):
+        for file, node in nodes(ast.Compare):
+            if isinstance(node.ops[0], (ast.Is, ast.IsNot)):
+                self.assertIsInstance(node.comparators[0], ast.Constant, (file, node.lineno))
+                self.assertIn(node.comparators[0].value, (None, True, False), (file, node.lineno))
+
+    def test_sets_stand_straight_within_sorted_or_len(self):
+        made = [(file, call) for file, call in nodes(ast.Call) if getattr(call.func, "id", None) == "set"]
+        within = [(file, call.args[0].lineno, call.args[0].col_offset) for file, call in nodes(ast.Call)
+                  if getattr(call.func, "id", None) in ("sorted", "len") and not call.keywords]
+        for file, call in made:
+            self.assertIn((file, call.lineno, call.col_offset), within)
+
     def test_only_listed_names_of_python(self):
         for file, node in nodes(ast.Name):
             self.assertNotRegex(node.id, "^_", (file, node.lineno))

@@ -5,6 +5,7 @@ import unittest
 
 from eitheror.errors import BadChoice, BadHouse, BadWord
 from eitheror.houses import House, chain, displeased, follows
+from eitheror.tellings import keeping
 
 WORD = (0, True)
 
@@ -96,6 +97,34 @@ class NoWord(Refusals):
         self.refused(BadWord, lambda word: chain(house, word, WORD), wrong)
         self.refused(BadWord, lambda word: chain(house, WORD, word), wrong)
         self.refused(BadWord, lambda word: chain(house, word, word), wrong)
+
+
+class NoWords(Refusals):
+    def setUp(self):
+        # No choice pleases the last one.
+        wishes = [[], [(WORD, (1, False))], [(WORD, WORD), ((0, False), (0, False))]]
+        self.houses = [House(2, given) for given in wishes]
+
+    def test_no_list(self):
+        wrong = [None, True, 0, 2, "", "0+", (), (WORD,), WORD, (WORD, WORD), {}, {WORD: True}, {WORD}, b"", 1.5]
+        for words in wrong:
+            self.words_refused(words)
+
+    def test_a_list_with_something_that_is_no_word(self):
+        for wrong in NO_WORDS + [WORD + WORD, [WORD], (WORD,)]:
+            for words in ([wrong], [wrong, WORD], [WORD, wrong], [WORD, (0, False), wrong, WORD]):
+                self.words_refused(words)
+
+    def test_names_that_the_house_does_not_have(self):
+        for names in range(1, 9):
+            for word in words_beyond(names):
+                for wishes in ([], [(WORD, WORD), ((0, False), (0, False))]):
+                    house = House(names, wishes)
+                    self.refused(BadWord, lambda words: keeping(house, words), [WORD, word])
+
+    def words_refused(self, wrong):
+        for house in self.houses:
+            self.refused(BadWord, lambda words: keeping(house, words), wrong)
 
 
 class NoChoice(Refusals):
